@@ -1,0 +1,1 @@
+"""Nearfold: numbers of a told shape in bits, each answer rounded once."""

@@ -1,0 +1,32 @@
+"""The interface: names, arguments and default values of what has landed."""
+
+import importlib
+import inspect
+import unittest
+
+FUNCTIONS = {
+    "shapes": ["is_whole(thing)", "shape_of(e, m)"],
+    "bits": [
+        "parts_of(shape, bits)", "joined(shape, sign, rank, body)", "size_of(shape, bits)",
+        "kind_of(shape, bits)", "is_none(shape, bits)", "is_number(shape, bits)",
+        "mark_of(shape, bits)", "none_of(shape, sign, mark, loud=False)", "told_none(shape)",
+        "stilled(shape, bits)", "nought_of(shape, sign)", "least_of(shape, sign)",
+        "greatest_of(shape, sign)", "end_of(shape, sign)", "turned(shape, bits)",
+        "next_up(shape, bits)", "next_down(shape, bits)",
+    ],
+}
+
+
+class TestInterface(unittest.TestCase):
+    def test_functions(self):
+        for module_name, lines in FUNCTIONS.items():
+            module = importlib.import_module("nearfold." + module_name)
+            for line in lines:
+                name = line.partition("(")[0]
+                with self.subTest(module=module_name, name=name):
+                    told = getattr(module, name)
+                    self.assertEqual(name + str(inspect.signature(told)), line)
+
+
+if __name__ == "__main__":
+    unittest.main()
