@@ -48,3 +48,61 @@ def measure(shape, size):
     if rank == 0:
         return Fraction(body, 2 ** m) * Fraction(2) ** (1 - middle)
     return (1 + Fraction(body, 2 ** m)) * Fraction(2) ** (rank - middle)
+
+
+WAYS = ("even", "off", "in", "up", "down")
+NEAR, FAINT, OVER = 1, 2, 4
+
+
+def signed_row(shape, sign, size):
+    return written(shape, sign, *divmod(size, 2 ** shape[1]))
+
+
+def last_size(shape):
+    """K: the size of the ends."""
+    return end_row(shape, 0)
+
+
+def size_before(shape, exact):
+    """The greatest size below K whose measure is exact at most, found by halving."""
+    low, high = 0, last_size(shape)
+    while high - low > 1:
+        amid = (low + high) // 2
+        if measure(shape, amid) <= exact:
+            low = amid
+        else:
+            high = amid
+    return low
+
+
+def goes_to_greater(sign, low, high, odd, exact, way):
+    """Which of two measures a way takes, told by distances and directions."""
+    if way == "in":
+        return False
+    if way == "up":
+        return sign == 0
+    if way == "down":
+        return sign == 1
+    if exact - low != high - exact:
+        return exact - low > high - exact
+    return way == "off" or odd
+
+
+def model_rounded(shape, sign, exact, way):
+    """Point 16, told over fractions: (bits, flags)."""
+    last = last_size(shape)
+    if exact >= measure(shape, last):
+        to_end = way in ("even", "off") or (way, sign) in (("up", 0), ("down", 1))
+        return signed_row(shape, sign, last if to_end else last - 1), NEAR | OVER
+    size = size_before(shape, exact)
+    low, high = measure(shape, size), measure(shape, size + 1)
+    if low == exact:
+        return signed_row(shape, sign, size), 0
+    if goes_to_greater(sign, low, high, size % 2 == 1, exact, way):
+        size += 1
+    flags = NEAR
+    if exact < measure(shape, 2 ** shape[1]):
+        flags |= FAINT
+    if size == last:
+        flags |= OVER
+    return signed_row(shape, sign, size), flags

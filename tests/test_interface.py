@@ -14,6 +14,19 @@ FUNCTIONS = {
         "greatest_of(shape, sign)", "end_of(shape, sign)", "turned(shape, bits)",
         "next_up(shape, bits)", "next_down(shape, bits)",
     ],
+    "worths": [
+        "grain_of(shape)", "height_of(shape, size)", "units_of(shape, bits)",
+        "worth_of(shape, bits)", "by_units(shape, sign, many)", "lowest(top, bottom)",
+        "held(shape, one, other)",
+    ],
+    "ways": ["way_of(word)"],
+    "flags": ["flag_words(flags)"],
+    "rounding": ["rounded(shape, sign, top, bottom, way='even')"],
+}
+
+METHODS = {
+    ("ways", name): ["goes_on(self, sign, odd, side)", "ends(self, sign)"]
+    for name in ("Way", "Even", "Off", "In", "Up", "Down")
 }
 
 
@@ -25,6 +38,15 @@ class TestInterface(unittest.TestCase):
                 name = line.partition("(")[0]
                 with self.subTest(module=module_name, name=name):
                     told = getattr(module, name)
+                    self.assertEqual(name + str(inspect.signature(told)), line)
+
+    def test_methods_stand_in_the_class_itself(self):
+        for (module_name, class_name), lines in METHODS.items():
+            made = getattr(importlib.import_module("nearfold." + module_name), class_name)
+            for line in lines:
+                name = line.partition("(")[0]
+                with self.subTest(made=class_name, name=name):
+                    told = vars(made)[name]
                     self.assertEqual(name + str(inspect.signature(told)), line)
 
 
