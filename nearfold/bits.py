@@ -58,6 +58,11 @@ def still_place(shape):
     return 1 << (shape[1] - 1)
 
 
+def crossed_sign(shape, one, other):
+    """The sign of a product or a quotient of two: 1 just where their signs are unlike."""
+    return sign_of(shape, one) ^ sign_of(shape, other)
+
+
 def kind_of(shape, bits):
     """The word of the kind of bits, one of six."""
     sign, rank, body = parts_of(shape, bits)
@@ -78,6 +83,16 @@ def is_none(shape, bits):
 def is_number(shape, bits):
     """Whether bits are a number: neither an end nor a none."""
     return size_of(shape, bits) < end_size(shape)
+
+
+def is_nought(shape, bits):
+    """Whether bits are a nought of either sign."""
+    return size_of(shape, bits) == 0
+
+
+def is_end(shape, bits):
+    """Whether bits are an end of either sign."""
+    return size_of(shape, bits) == end_size(shape)
 
 
 def mark_of(shape, bits):

@@ -8,39 +8,46 @@ from nearfold.worths import compared, grain_of, height_of, size_below
 
 def rounded(shape, sign, top, bottom, way="even"):
     """The tuple (bits, flags) of the measure top / bottom with a sign, rounded by a way."""
-    asked = way_of(way)
     scaled = top << grain_of(shape)
     units, rest = divmod(scaled, bottom)
     size = size_below(shape, units)
     if size >= end_size(shape):
-        return beyond(shape, sign, asked)
+        return beyond(shape, sign, way)
     if rest == 0 and units == height_of(shape, size):
         return (row_of(shape, sign, size), 0)
-    side = side_of(shape, size, scaled, bottom)
-    told = size + 1 if asked.goes_on(sign, size % 2 == 1, side) else size
-    return (row_of(shape, sign, told), between_flags(shape, units, told))
+    side = compared(2 * scaled, twice_middle(shape, size) * bottom)
+    return between(shape, sign, size, side, way)
 
 
-def beyond(shape, sign, asked):
+def twice_middle(shape, size):
+    """Twice the units of the middle between a size and the next one."""
+    return height_of(shape, size) + height_of(shape, size + 1)
+
+
+def beyond(shape, sign, way):
     """The answer for a measure at the height of the end's size or above it."""
-    if asked.ends(sign):
+    if way_of(way).ends(sign):
         return (end_of(shape, sign), NEAR | OVER)
     return (greatest_of(shape, sign), NEAR | OVER)
 
 
-def side_of(shape, size, scaled, bottom):
-    """-1, 0 or 1 as scaled / bottom units lie below the middle of a size and the next one,
-    just there, or above it."""
-    both = height_of(shape, size) + height_of(shape, size + 1)
-    return compared(2 * scaled, both * bottom)
-
-
-def between_flags(shape, units, told):
-    """The flags of a measure between two sizes, which lay whole units or a little above
-    them, and was rounded to the size told."""
+def between(shape, sign, size, side, way):
+    """The answer for a measure between a size and the next one, on a side of their middle."""
+    told = size + 1 if way_of(way).goes_on(sign, size % 2 == 1, side) else size
     flags = NEAR
-    if units < (1 << shape[1]):
+    # Sizes below the least plain one are as many units, so the size tells it of the measure.
+    if size < (1 << shape[1]):
         flags |= FAINT
     if told == end_size(shape):
         flags |= OVER
-    return flags
+    return (row_of(shape, sign, told), flags)
+
+
+def rounded_whole(sign, top, bottom, way):
+    """The measure top / bottom with a sign, as a whole number rounded by a way, and flags."""
+    whole, rest = divmod(top, bottom)
+    flags = 0 if rest == 0 else NEAR
+    side = compared(2 * rest, bottom)
+    if rest > 0 and way_of(way).goes_on(sign, whole % 2 == 1, side):
+        whole += 1
+    return (-whole if sign == 1 else whole, flags)

@@ -1,6 +1,9 @@
 """What the tests share: shapes, wrong things, and the document's rules told another way."""
 
+import random
+import struct
 from fractions import Fraction
+from functools import lru_cache
 
 LEAST = (2, 2)
 GREATEST = (11, 60)
@@ -40,6 +43,7 @@ def end_row(shape, sign):
     return written(shape, sign, 2 ** shape[0] - 1, 0)
 
 
+@lru_cache(maxsize=None)
 def measure(shape, size):
     """The exact measure of a size as a power of two times one and a fraction."""
     e, m = shape
@@ -51,7 +55,8 @@ def measure(shape, size):
 
 
 WAYS = ("even", "off", "in", "up", "down")
-NEAR, FAINT, OVER = 1, 2, 4
+NEAR, FAINT, OVER, VOID, ODD = 1, 2, 4, 8, 16
+SIGNS = (0, 1)
 
 
 def signed_row(shape, sign, size):
@@ -88,6 +93,7 @@ def goes_to_greater(sign, low, high, odd, exact, way):
     return way == "off" or odd
 
 
+@lru_cache(maxsize=None)
 def model_rounded(shape, sign, exact, way):
     """Point 16, told over fractions: (bits, flags)."""
     last = last_size(shape)
@@ -106,3 +112,114 @@ def model_rounded(shape, sign, exact, way):
     if size == last:
         flags |= OVER
     return signed_row(shape, sign, size), flags
+
+
+def kind_word(shape, bits):
+    """Point 9, read off the written places."""
+    sign, rank, body = places(shape, bits)
+    if rank == 0:
+        return "small" if body else "nought"
+    if rank < 2 ** shape[0] - 1:
+        return "plain"
+    if not body:
+        return "end"
+    return "still" if format(body, "b").zfill(shape[1])[0] == "1" else "loud"
+
+
+def exact_of(shape, bits):
+    """The exact worth of a number."""
+    sign, rank, body = places(shape, bits)
+    return (-1) ** sign * measure(shape, rank * 2 ** shape[1] + body)
+
+
+def edge_rows(shape):
+    """Rows of both signs: noughts, numbers at the edges, ends and nones."""
+    e, m = shape
+    one, last, half = (2 ** (e - 1) - 1) * 2 ** m, last_size(shape), 2 ** (m - 1)
+    sizes = [0, 1, 2, 3, 2 ** m - 1, 2 ** m, 2 ** m + 1, one - 1, one, one + 1, one + half,
+             one + half + 1, one + 2 ** m - 1, last - 2, last - 1]
+    nones = [last + 1, last + half - 1, last + half, last + half + 1, last + 2 ** m - 1]
+    return [signed_row(shape, sign, size)
+            for size in sorted(set(sizes)) + [last] + sorted(set(nones)) for sign in SIGNS]
+
+
+def edge_numbers(shape):
+    return [row for row in edge_rows(shape) if row % 2 ** sum(shape) < last_size(shape)]
+
+
+class PairTests:
+    """Two tests for each test case that says by check(shape, one, other) what holds of a pair."""
+
+    def test_all_pairs_of_small_shapes(self):
+        for shape in [(2, 2), (2, 3), (3, 2)]:
+            for one in all_bits(shape):
+                for other in all_bits(shape):
+                    self.check(shape, one, other)
+
+    def test_pairs_at_the_edges_of_greater_shapes(self):
+        for shape in SHAPES[3:]:
+            rows = edge_rows(shape)
+            for one in rows:
+                for other in rows:
+                    self.check(shape, one, other)
+
+
+def odd_row(shape):
+    """What is told where it is odd: the still one of sign 0 and mark 0, with its flag."""
+    return written(shape, 0, 2 ** shape[0] - 1, 2 ** (shape[1] - 1)), ODD
+
+
+def model_none(shape, rows):
+    """Point 17: what nones give, or None."""
+    words = [kind_word(shape, row) for row in rows]
+    for row, word in zip(rows, words):
+        if word in ("loud", "still"):
+            sign, rank, body = places(shape, row)
+            bits = written(shape, sign, rank, body | 2 ** (shape[1] - 1))
+            return bits, ODD if "loud" in words else 0
+    return None
+
+
+def model_sum(shape, parts, way):
+    """Points 18 and 20, of a list of pairs (sign, Fraction, or None for an end)."""
+    ends = {sign for sign, part in parts if part is None}
+    if ends:
+        return odd_row(shape) if len(ends) == 2 else (end_row(shape, ends.pop()), 0)
+    exact = sum(part for sign, part in parts)
+    if exact != 0:
+        return model_rounded(shape, int(exact < 0), abs(exact), way)
+    signs = {sign for sign, part in parts}
+    sign = signs.pop() if len(signs) == 1 else int(way == "down")
+    return signed_row(shape, sign, 0), 0
+
+
+def part_of(shape, row):
+    """A number or an end as model_sum takes it."""
+    exact = exact_of(shape, row) if kind_word(shape, row) != "end" else None
+    return places(shape, row)[0], exact
+
+
+def double(value):
+    """The bits of one of the machine's own numbers, in the shape (11, 52)."""
+    return struct.unpack(">Q", struct.pack(">d", value))[0]
+
+
+def undoubled(bits):
+    return struct.unpack(">d", struct.pack(">Q", bits))[0]
+
+
+def doubles(seed, many):
+    """Bits of numbers of the shape (11, 52), near to one another and far apart, always the
+    same ones for a seed."""
+    source = random.Random(seed)
+    ranks = [0, 1, 2, 500, 1000, 1020, 1022, 1023, 1024, 1025, 1050, 1075, 1500, 2045, 2046]
+    bodies = [0, 1, 2, 2 ** 51, 2 ** 52 - 1, 2 ** 52 - 2]
+    rows = []
+    for turn in range(many):
+        sign = source.getrandbits(1)
+        rank = ranks[source.getrandbits(16) % len(ranks)]
+        body = source.getrandbits(52)
+        if turn % 3 == 0:
+            body = bodies[source.getrandbits(16) % len(bodies)]
+        rows.append(written((11, 52), sign, rank, body))
+    return rows

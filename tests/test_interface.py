@@ -22,6 +22,18 @@ FUNCTIONS = {
     "ways": ["way_of(word)"],
     "flags": ["flag_words(flags)"],
     "rounding": ["rounded(shape, sign, top, bottom, way='even')"],
+    "nones": ["none_among(shape, rows)", "odd_answer(shape)"],
+    "sums": ["plus(shape, one, other, way='even')", "minus(shape, one, other, way='even')"],
+    "products": [
+        "times(shape, one, other, way='even')", "one_step(shape, one, other, third, way='even')",
+    ],
+    "quotients": ["quotient(shape, one, other, way='even')", "rests(shape, one, other)"],
+    "roots": ["root(shape, one, way='even')"],
+    "orders": [
+        "order_of(shape, one, other)", "place_of(shape, bits)", "by_place(shape, place)",
+        "in_order(shape, rows)", "lower(shape, one, other)", "higher(shape, one, other)",
+    ],
+    "wholes": ["from_whole(shape, number, way='even')", "to_whole(shape, bits, way='even')"],
 }
 
 METHODS = {
