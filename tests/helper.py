@@ -223,3 +223,30 @@ def doubles(seed, many):
             body = bodies[source.getrandbits(16) % len(bodies)]
         rows.append(written((11, 52), sign, rank, body))
     return rows
+
+
+def plain_figures(exact):
+    """A measure that is a whole number of halves of halves .. as figures with a point, exactly."""
+    top, bottom = exact.numerator, exact.denominator
+    behind = bottom.bit_length() - 1
+    assert bottom == 2 ** behind
+    figures = str(top * 5 ** behind).zfill(behind + 1)
+    return figures[:len(figures) - behind] + ("." + figures[-behind:] if behind else "")
+
+
+def powered_figures(exact):
+    """The same with all figures ahead of a power of ten."""
+    behind = exact.denominator.bit_length() - 1
+    return "{}e-{}".format(exact.numerator * 5 ** behind, behind)
+
+
+class ReadTests:
+    """For test cases that hold what a reader tells against the exact fraction, rounded."""
+
+    def check_read(self, reader, shape, text, exact):
+        for way in WAYS:
+            for sign in SIGNS:
+                told = reader(shape, "-" * sign + text, way)
+                self.assertIs(type(told), tuple)
+                wanted = model_rounded(shape, sign, exact, way)
+                self.assertEqual(told, wanted, (shape, sign, text, way))

@@ -34,6 +34,14 @@ FUNCTIONS = {
         "in_order(shape, rows)", "lower(shape, one, other)", "higher(shape, one, other)",
     ],
     "wholes": ["from_whole(shape, number, way='even')", "to_whole(shape, bits, way='even')"],
+    "moves": [
+        "moved(shape, bits, other_shape, way='even')", "holds(great, small)",
+        "through(small, great, word, one, other, way='even')",
+        "harmless(small, great, word, way='even')",
+    ],
+    "scan": ["good_begin(text, sixteen=False)", "is_good(text, sixteen=False)"],
+    "tens": ["read(shape, text, way='even')"],
+    "sixteens": ["read_sixteen(shape, text, way='even')", "sixteen_of(shape, bits)"],
 }
 
 METHODS = {
