@@ -181,14 +181,14 @@ def model_none(shape, rows):
 
 
 def model_sum(shape, parts, way):
-    """Points 18 and 20, of a list of pairs (sign, Fraction, or None for an end)."""
+    """Points 18, 20 and 36, of a list of pairs (sign, Fraction, or None for an end)."""
     ends = {sign for sign, part in parts if part is None}
     if ends:
         return odd_row(shape) if len(ends) == 2 else (end_row(shape, ends.pop()), 0)
     exact = sum(part for sign, part in parts)
     if exact != 0:
         return model_rounded(shape, int(exact < 0), abs(exact), way)
-    signs = {sign for sign, part in parts}
+    signs = {sign for sign, part in parts} or {0}
     sign = signs.pop() if len(signs) == 1 else int(way == "down")
     return signed_row(shape, sign, 0), 0
 
@@ -197,6 +197,15 @@ def part_of(shape, row):
     """A number or an end as model_sum takes it."""
     exact = exact_of(shape, row) if kind_word(shape, row) != "end" else None
     return places(shape, row)[0], exact
+
+
+def product_part(shape, one, other):
+    """The exact product as model_sum takes it, or "odd"."""
+    (one_sign, first), (other_sign, second) = part_of(shape, one), part_of(shape, other)
+    sign = int(one_sign != other_sign)
+    if first is None or second is None:
+        return "odd" if 0 in (first, second) else (sign, None)
+    return sign, first * second
 
 
 def double(value):

@@ -42,12 +42,19 @@ FUNCTIONS = {
     "scan": ["good_begin(text, sixteen=False)", "is_good(text, sixteen=False)"],
     "tens": ["read(shape, text, way='even')"],
     "sixteens": ["read_sixteen(shape, text, way='even')", "sixteen_of(shape, bits)"],
+    "shortest": ["shortest(shape, bits)"],
+    "shown": ["shown(shape, bits)"],
+    "totals": [
+        "total(shape, rows, way='even')", "dots(shape, pairs, way='even')",
+        "split(shape, one, other)",
+    ],
 }
 
 METHODS = {
     ("ways", name): ["goes_on(self, sign, odd, side)", "ends(self, sign)"]
     for name in ("Way", "Even", "Off", "In", "Up", "Down")
 }
+METHODS["desk", "Desk"] = ["__init__(self, e, m)", "say(self, row)"]
 
 
 class TestInterface(unittest.TestCase):

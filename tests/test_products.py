@@ -7,19 +7,10 @@ from fractions import Fraction
 from helper import (
     GREATEST, LEAST, SHAPES, SIGNS, WAYS, PairTests, all_bits, double, doubles, edge_numbers,
     edge_rows, end_row, exact_of, last_size, model_none, model_rounded, model_sum, odd_row, part_of,
-    places, signed_row, undoubled,
+    places, product_part, signed_row, undoubled,
 )
 from nearfold.products import one_step, times
 from nearfold.sums import plus
-
-
-def product_part(shape, one, other):
-    """The exact product as model_sum takes it, or "odd"."""
-    (one_sign, first), (other_sign, second) = part_of(shape, one), part_of(shape, other)
-    sign = int(one_sign != other_sign)
-    if first is None or second is None:
-        return "odd" if 0 in (first, second) else (sign, None)
-    return sign, first * second
 
 
 def model_times(shape, one, other, way):
