@@ -139,9 +139,9 @@ class Desk:
 
     def kept(self, name):
         """The bits that are kept by a name, or NoName."""
-        check_name(name)
+        # By what is no name nothing is kept, either.
         if name not in self.rows:
-            raise NoName("nothing is kept by this name")
+            raise NoName("no name, or one by which nothing is kept")
         return self.rows[name]
 
     def answer_of(self, words):

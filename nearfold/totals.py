@@ -1,7 +1,5 @@
 """Long sums, and sums of many products, rounded once; sums of two with what is left of them."""
 
-from nearfold.bits import is_number
-from nearfold.errors import NoNumber
 from nearfold.nones import none_among
 from nearfold.products import product_part, told_ahead
 from nearfold.sums import added, part_of, plus
@@ -29,8 +27,6 @@ def split(shape, one, other):
     """The sum of two numbers by "even", and what is left of the exact sum, as a tuple of bits
     and bits, or NoNumber."""
     bits, flags = plus(shape, one, other)
-    # An end or a none among the two makes their sum an end or a none.
-    if not is_number(shape, bits):
-        raise NoNumber("only a sum that is a number leaves a number")
+    # Units refuse what is no number, among the two as well as their sum.
     left = units_of(shape, one) + units_of(shape, other) - units_of(shape, bits)
     return (bits, by_units(shape, 1 if left < 0 else 0, abs(left)))

@@ -44,14 +44,20 @@ def finite(shape):
     return [row for row in edge_rows(shape) if kind_word(shape, row) not in ("loud", "still")]
 
 
-class TestTotalByTheModel(unittest.TestCase):
-    def check(self, shape, rows):
+class ListTests(unittest.TestCase):
+    def held_against(self, model, deed, shape, things):
+        """What a deed tells of a list, in every way, and that the list stays as it is."""
+        kept = list(things)
         for way in WAYS:
-            kept = list(rows)
-            told = total(shape, rows, way)
-            self.assertEqual(rows, kept)
+            told = deed(shape, things, way)
+            self.assertEqual(things, kept)
             self.assertIs(type(told), tuple)
-            self.assertEqual(told, model_total(shape, rows, way), (shape, rows, way))
+            self.assertEqual(told, model(shape, things, way), (shape, things, way))
+
+
+class TestTotalByTheModel(ListTests):
+    def check(self, shape, rows):
+        self.held_against(model_total, total, shape, rows)
 
     def test_all_threes_of_the_least_shape(self):
         rows = [0, 16, 1, 17, 3, 20, 7, 23, 9, 26, 11, 27, 12, 28, 13, 14, 15, 29, 30]
@@ -175,14 +181,9 @@ class TestTotalByHand(unittest.TestCase):
         self.assertEqual(total(LEAST, [8, 1]), (8, 1))
 
 
-class TestDotsByTheModel(unittest.TestCase):
+class TestDotsByTheModel(ListTests):
     def check(self, shape, pairs):
-        for way in WAYS:
-            kept = list(pairs)
-            told = dots(shape, pairs, way)
-            self.assertEqual(pairs, kept)
-            self.assertIs(type(told), tuple)
-            self.assertEqual(told, model_dots(shape, pairs, way), (shape, pairs, way))
+        self.held_against(model_dots, dots, shape, pairs)
 
     def test_two_pairs_of_the_least_shape(self):
         rows = [0, 16, 1, 21, 11, 27, 12, 28, 13, 31]
